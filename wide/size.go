@@ -110,8 +110,8 @@ func timesWord(a, b uint64) (uint64, uint64) {
 	aLow, aHigh := uint64(uint32(a)), a>>32
 	bLow, bHigh := uint64(uint32(b)), b>>32
 	low := aLow * bLow
-	// None of these two sums goes beyond a word: a product of two halves is
-	// at most a word less than two halves.
+	// Neither of these two sums goes beyond a word: a product of two halves is
+	// at most 2^64 - 2^33 + 1, and what is added to it is below 2^32.
 	mid := aHigh*bLow + low>>32
 	cross := aLow*bHigh + uint64(uint32(mid))
 	return cross<<32 | uint64(uint32(low)), aHigh*bHigh + mid>>32 + cross>>32
