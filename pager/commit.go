@@ -2,9 +2,11 @@ package pager
 
 import (
 	"slices"
+	"strings"
 
 	"croft/api"
 	"croft/redo"
+	"croft/word"
 )
 
 // Commit makes what was changed count for good.
@@ -49,13 +51,54 @@ func (p *Pager) enter(changed []sheet) api.Errno {
 	for i, s := range changed {
 		pages[i] = s.bytes()
 	}
-	e := p.log.Append(pages)
-	if e == api.ErrLog && 1+len(pages)*redo.Per <= p.at.log {
+	e := p.add(pages)
+	if e == api.ErrLog && sectorsOf(pages) <= p.at.log {
 		if e = p.empty(); e == api.OK {
-			e = p.log.Append(pages)
+			e = p.add(pages)
 		}
 	}
 	return p.told(e)
+}
+
+// sectorsOf is how many sectors a transaction of these pages takes.
+func sectorsOf(pages []string) int { return 1 + len(pages)*redo.Per }
+
+// add puts these pages into the log as it is.
+func (p *Pager) add(pages []string) api.Errno {
+	if sectorsOf(pages) <= p.log.Left() {
+		if e := p.prepare(sectorsOf(pages)); e != api.OK {
+			return e
+		}
+	}
+	return p.log.Append(pages)
+}
+
+// prepare makes the log ready for a transaction of so many sectors: no sector in
+// which a mark is looked for ends with the number that is looked for there. What
+// stands there is left by pages and by crashes, and may be anything.
+func (p *Pager) prepare(sectors int) api.Errno {
+	end := marks + p.at.log
+	at := end - p.log.Left()
+	// A mark that is torn ends as its sector did: with its number there it could
+	// be a mark all the same, of another text.
+	e := p.unmark(at, p.log.Next())
+	if behind := at + sectors; e == api.OK && behind < end {
+		// What is no transaction must not be found behind this one, either.
+		e = p.unmark(behind, p.log.Next()+1)
+	}
+	return e
+}
+
+// unmark makes a sector end with another number, if it ends with that one.
+func (p *Pager) unmark(at int, seq uint64) api.Errno {
+	s, e := p.at.disk.Read(at)
+	rest, found := strings.CutSuffix(s, word.Put(seq, txnSize))
+	if e != api.OK || !found {
+		return e
+	}
+	// Wherever this is torn, it ends with another number, or is what stood there.
+	other := rest + word.Put(^seq, txnSize)
+	return p.at.write(func(to put) { to(at, other) })
 }
 
 // told answers an error of the disk, or of the log, and keeps in mind that the

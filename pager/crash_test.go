@@ -1,6 +1,7 @@
 package pager_test
 
 import (
+	"math"
 	"slices"
 	"strings"
 	"testing"
@@ -9,6 +10,7 @@ import (
 	"croft/api"
 	"croft/disk"
 	"croft/pager"
+	"croft/redo"
 )
 
 // stir answers n bytes that follow from the seed alone, with no pattern in them.
@@ -422,6 +424,57 @@ func written(t *testing.T, log, n, settled int) string {
 	return d.Image()
 }
 
+// nearlyMarks is a room that leaves in most sectors of the log what would be the
+// mark of a transaction of one page, but for the byte that tells it.
+func nearlyMarks(seq uint64) string {
+	part := low(seq, 8) + low(1, 2) + noughts(45) + low(seq, 8)
+	// A page begins with sixteen bytes ahead of its room.
+	return strings.Repeat(part, 9)[16:][:496]
+}
+
+// littered answers the image of a disk with pages 1 to 3 at their places, and an
+// empty log of the first number first; the sector at of the log is that one, and
+// behind it stand two pages as if it were their mark.
+func littered(t *testing.T, log int, first uint64, at int, sector string) string {
+	t.Helper()
+	elder := []string{packed(t, 1, 0, headRoom(2, 0)), packed(t, 7, 1, "elder")}
+	d := blank(t, 19)
+	l, _, e := redo.Open(d, 0, 19, 1)
+	is(t, "Open of the log", e, api.OK)
+	is(t, "Append", l.Append(elder), api.OK)
+	image := over(written(t, log, 3, 3), 0, markOf(100, first, log))
+	return over(image, 2+at, sector+d.Image()[64:])
+}
+
+// turned is the mark of a transaction of so many pages, of which one byte of the
+// first number is another.
+func turned(seq uint64, pages, at int) string {
+	s := []byte(marked(seq, low(uint64(pages), 2)+"\x01"))
+	s[at] ^= 0x55
+	return string(s)
+}
+
+// litter are stories of Commits of three pages on disks on which crashes left
+// what is nearly a transaction.
+func litter(t *testing.T) []story {
+	var out []story
+	for _, first := range []uint64{2, 255, 256, 1 << 16, 1 << 56, math.MaxUint64, 0} {
+		for _, at := range []int{0, 6, 7} {
+			for pages := 1; pages <= 4; pages++ {
+				// The transaction may take all of the log.
+				log := []int{28, 120}[pages%2]
+				image := littered(t, log, first, 0, turned(first, pages, at))
+				out = append(out, story{"a mark over a torn one", image, committed})
+			}
+		}
+		for _, pages := range []int{1, 2} {
+			image := littered(t, 120, first, 28, marked(first+1, low(uint64(pages), 2)+"\x01"))
+			out = append(out, story{"a transaction ahead of what is none", image, committed})
+		}
+	}
+	return out
+}
+
 // stories are some, of Commits and Checkpoints.
 func stories(t *testing.T) []story {
 	checkpoint := func(_ *testing.T, p *pager.Pager) api.Errno { return p.Checkpoint() }
@@ -498,7 +551,7 @@ func behind(t *testing.T, image string, writes []write, c script) string {
 }
 
 func TestThePowerGoesAtEachCall(t *testing.T) {
-	for _, y := range stories(t) {
+	for _, y := range slices.Concat(stories(t), litter(t)) {
 		before := tale(t, opened(t, loaded(t, y.image), 4))
 		d := loaded(t, y.image)
 		p := opened(t, d, 8)
@@ -528,10 +581,94 @@ func TestThePowerGoesAtEachCall(t *testing.T) {
 		if sure != d.Image() {
 			t.Fatalf("%s: the writes are told wrongly", y.name)
 		}
-		if before != after && (met["before"] < 100 || met["after"] < 4) {
+		if before != after && (met["before"] < 100 || met["after"] < 2) {
 			t.Errorf("%s: %v", y.name, met)
 		}
 	}
+}
+
+// rewrites makes these pages nearly marks of a number, of that kind.
+func rewrites(t *testing.T, p *pager.Pager, seq uint64, kind int, nos ...int) {
+	t.Helper()
+	for _, no := range nos {
+		is(t, "Write", p.Write(no, kind, nearlyMarks(seq)), api.OK)
+	}
+}
+
+// cutCommit lets the power go in a Commit behind so many calls of the disk, of
+// which the last one leaves so many bytes of a sector; nothing else is kept that
+// isn't sure.
+func cutCommit(t *testing.T, d *disk.Disk, p *pager.Pager, calls, bytes int) *pager.Pager {
+	t.Helper()
+	d.Fuse(calls)
+	is(t, "Commit", p.Commit(), api.ErrDown)
+	d.Crash(nil, d.Pending()-1, bytes)
+	return opened(t, d, 8)
+}
+
+func TestNothingIsFoundBehindTheLastTransaction(t *testing.T) {
+	const last = 6
+	d, p := made(t, 200, 60, 8)
+	for no := 1; no <= 3; no++ {
+		alloc(t, p, 2, no, api.OK)
+	}
+	rewrites(t, p, last, 3, 1, 2, 3)
+	is(t, "Commit", p.Commit(), api.OK)
+	is(t, "Checkpoint", p.Checkpoint(), api.OK)
+	for kind := 4; kind <= 5; kind++ {
+		rewrites(t, p, last, kind, 1)
+		is(t, "Commit", p.Commit(), api.OK)
+	}
+	// The fourth transaction's mark is torn, over what the first one left.
+	rewrites(t, p, last, 6, 1)
+	p = cutCommit(t, d, p, 11, 56)
+	at(t, d, 2+20, marked(4, low(1, 2)+"\x01")[:56]+low(last, 8))
+	is(t, "Checkpoint", p.Checkpoint(), api.OK)
+	// Then a page's sector is torn over it: it is a mark of one page, which stands
+	// behind it.
+	rewrites(t, p, last, 7, 1, 2, 3)
+	p = cutCommit(t, d, p, 20, 8)
+	at(t, d, 2+20, marked(last, low(1, 2)+"\x01"))
+	for kind := 8; kind <= 9; kind++ {
+		rewrites(t, p, last, kind, 1)
+		is(t, "Commit", p.Commit(), api.OK)
+		reads(t, opened(t, d, 2), 1, kind, nearlyMarks(last))
+	}
+}
+
+func TestACommitWritesNoMoreThanItMust(t *testing.T) {
+	// The pages' sectors, and the mark, each with a flush, where nothing that
+	// stands in the log is nearly a transaction.
+	for _, n := range []int{1, 2, 3} {
+		d, p := made(t, 200, 100, 8)
+		for no := 1; no <= 3; no++ {
+			alloc(t, p, 2, no, api.OK)
+		}
+		is(t, "Commit", p.Commit(), api.OK)
+		is(t, "Checkpoint", p.Checkpoint(), api.OK)
+		for no := 1; no <= n; no++ {
+			is(t, "Write", p.Write(no, 3, "x"), api.OK)
+		}
+		d.Fuse(9*n + 3)
+		is(t, "Commit", p.Commit(), api.OK)
+		is(t, "Flush", d.Flush(), api.ErrDown)
+	}
+}
+
+func TestPagesAreNotTakenForTheLog(t *testing.T) {
+	// The log is full behind the third transaction; the page 0 stands right behind
+	// it, and its first sector ends with the next number.
+	d, p := made(t, 60, 20, 8)
+	alloc(t, p, 2, 1, api.OK)
+	is(t, "SetRoot", p.SetRoot(4, 4), api.OK)
+	is(t, "Commit", p.Commit(), api.OK)
+	is(t, "Checkpoint", p.Checkpoint(), api.OK)
+	for kind := 3; kind <= 4; kind++ {
+		is(t, "Write", p.Write(1, kind, "x"), api.OK)
+		is(t, "Commit", p.Commit(), api.OK)
+	}
+	at(t, d, placeOf(20, 0), packed(t, 1, 0, headRoom(2, 0, 0, 0, 0, 0, 4)))
+	reads(t, opened(t, d, 2), 1, 4, "x")
 }
 
 func TestWhatWasCommittedStays(t *testing.T) {
